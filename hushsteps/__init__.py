@@ -1,0 +1,1 @@
+"""Hushsteps: walks through a house in which somebody sleeps."""
