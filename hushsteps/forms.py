@@ -9,6 +9,11 @@ def is_whole(value):
     return isinstance(value, int) and not isinstance(value, bool)
 
 
+def is_number(value):
+    """Whether any value is an integer from 0 on."""
+    return is_whole(value) and value >= 0
+
+
 def is_positive(value):
     """Whether any value is an integer from 1 on."""
     return is_whole(value) and value >= 1

@@ -1,10 +1,13 @@
 """Sleepers: what a noise, a tick and humming do to them."""
 
 from hushsteps.errors import InvalidSleeper, InvalidText
-from hushsteps.forms import are_unlike, is_name, is_numeral, is_positive, is_row, is_tuple_of
+from hushsteps.forms import are_unlike, is_name, is_numeral, is_positive, is_row, is_tuple_of, is_whole
 
 SORTS = ("faint", "loud", "soft", "sudden")
 LOUD_RULES = ("again", "nothing", "wake")
+# How a sleeper can be at first, and what can be hummed.
+FIRSTS = ("asleep", "dozing", "up")
+HUMMED = ("doze", "up")
 
 UP = ("up",)
 ASLEEP = ("asleep",)
@@ -94,6 +97,14 @@ def heard(sleeper, state, noise):
     return state
 
 
+def heard_all(sleeper, state, noises):
+    """The state behind several noises, one behind the other."""
+    behind = state
+    for noise in noises:
+        behind = heard(sleeper, behind, noise)
+    return behind
+
+
 def ticked(sleeper, state):
     """The state behind a tick."""
     if state[0] == "dozing":
@@ -142,3 +153,26 @@ def heard_loud_dozing(sleeper, state):
     if sleeper.loud == "wake":
         return WOKEN
     return dozing_anew(sleeper) if sleeper.loud == "again" else state
+
+
+def is_state(sleeper, value):
+    """Whether any value is a state in which this sleeper can be and is not woken."""
+    if not isinstance(value, tuple) or len(value) == 0:
+        return False
+    if value in (UP, ASLEEP):
+        return True
+    if value[0] == "dozing":
+        return len(value) == 2 and is_within(value[1], 1, sleeper.doze)
+    if value[0] == "stirring":
+        return len(value) == 2 and is_within(value[1], 1, sleeper.stir)
+    return value[0] == "asleep" and len(value) == 3 and is_kept(sleeper, value[1], value[2])
+
+
+def is_within(value, least, most):
+    """Whether any value is an integer from the least to the most."""
+    return is_whole(value) and least <= value <= most
+
+
+def is_kept(sleeper, noise, ago):
+    """Whether any values are a faint noise and how many ticks ago it can have been heard."""
+    return sort_of(sleeper, noise) == "faint" and is_within(ago, 0, sleeper.near)

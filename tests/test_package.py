@@ -20,10 +20,22 @@ INTERFACE = {
         "Sleeper": ["sorts", "stir", "doze", "near", "loud"], "first_state": ["sleeper", "first"],
         "heard": ["sleeper", "state", "noise"], "ticked": ["sleeper", "state"], "hummed": ["sleeper", "state", "word"],
     },
+    "walks": {
+        "Walk": ["guests", "nurses", "first", "events"], "play": ["house", "sleeper", "walk"], "Played": None,
+    },
+    "guests": {
+        "unheard": ["house", "sleeper", "first"], "fewest": ["house", "sleeper", "first", "room"],
+        "way": ["house", "sleeper", "first", "room"],
+    },
+    "tables": {
+        "table": ["house", "sleeper", "first", "room"],
+        "table_holds": ["house", "sleeper", "first", "room", "value"],
+    },
 }
 METHODS = {
     ("houses", "House"): ("noises", "mended", "read", "__len__", "__eq__", "__str__"),
     ("sleepers", "Sleeper"): ("read", "__eq__", "__str__"),
+    ("walks", "Walk"): ("upto", "further", "__len__", "__eq__"),
 }
 LIBRARY = {"heapq", "math", "itertools", "collections"}
 BARRED = {
@@ -76,6 +88,10 @@ class Interface(unittest.TestCase):
         self.assertEqual(list(inspect.signature(sleepers.Sleeper.read).parameters), ["text"])
         parameters = inspect.signature(houses.House).parameters
         self.assertEqual((parameters["floors"].default, parameters["cradles"].default), ((), ()))
+        walks = importlib.import_module("hushsteps.walks")
+        self.assertEqual(list(inspect.signature(walks.Walk.upto).parameters), ["self", "many"])
+        self.assertEqual(list(inspect.signature(walks.Walk.further).parameters), ["self", "events"])
+        self.assertEqual(inspect.signature(walks.Walk).parameters["events"].default, ())
 
     def test_the_init_file_is_a_docstring_alone(self):
         tree = ast.parse(text_of(os.path.join(FOLDER, "__init__.py")))
