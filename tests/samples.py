@@ -4,7 +4,7 @@ import random
 
 from hushsteps.errors import InvalidText
 from hushsteps.houses import House
-from hushsteps.sleepers import Sleeper
+from hushsteps.sleepers import Sleeper, heard, hummed, ticked
 from hushsteps.walks import Walk, play
 
 RULES = ("again", "nothing", "wake")
@@ -80,3 +80,65 @@ def helped_nights(seed, many):
         sorts = [("bang", "loud"), ("crk", "sudden"), ("drip", "faint"), ("gate", "soft")]
         sleeper = Sleeper(sorts, chance.randint(1, 2), chance.randint(1, 2), 1, "again")
         yield House(4, doors, floors), sleeper, chance.choice(["asleep", "dozing"])
+
+
+def small_errands(seed, many, rooms=3, doors=4):
+    """So many tuples of a small house with cradles, a sleeper, how slow a nurse is, her start and her goal."""
+    chance = random.Random(seed)
+    names = ["a", "b", "c"]
+    for _ in range(many):
+        house = small_house(chance, names, chance.randint(1, rooms), chance.randint(0, doors))
+        cradles = [room for room in range(house.rooms) if chance.random() < 0.4]
+        house = House(house.rooms, house.doors, house.floors, cradles)
+        start = (chance.randrange(house.rooms), chance.choice(FIRSTS))
+        goal = (chance.randrange(house.rooms), chance.choice(FIRSTS))
+        yield house, small_sleeper(chance, names), chance.randrange(3), start, goal
+
+
+def hard_errands(seed, many):
+    """The same for houses in which the nurse often has a long way, by noises that must come in the right order."""
+    chance = random.Random(seed)
+    sorts = [("bang", "loud"), ("crk", "sudden"), ("drip", "faint"), ("gate", "soft"), ("tap", "faint")]
+    for _ in range(many):
+        doors = [(0, 1, chance.choice(["gate", "tap", None])), (1, 2, chance.choice(["gate", "drip", "tap"]))]
+        doors.append((2, 3, chance.choice(["crk", "bang", "gate", None])))
+        doors.append((chance.randrange(3), 3, chance.choice(["drip", "crk", "bang"])))
+        floors = [(room, chance.choice(["crk", "drip", "tap"])) for room in (1, 2, 3) if chance.random() < 0.4]
+        house = House(4, doors, floors, [room for room in (1, 2, 3) if chance.random() < 0.5])
+        sleeper = Sleeper(sorts, chance.randint(1, 5), chance.randint(1, 4), chance.randint(1, 2), chance.choice(RULES))
+        start = (0, chance.choice(FIRSTS))
+        yield house, sleeper, chance.randrange(3), start, (chance.choice([2, 3, 3]), chance.choice(FIRSTS))
+
+
+def states_of(sleeper):
+    """All states in which a sleeper can be and is not woken."""
+    states = [("up",), ("asleep",)] + [("dozing", t) for t in range(1, sleeper.doze + 1)]
+    states += [("stirring", t) for t in range(1, sleeper.stir + 1)]
+    faint = [name for name, sort in sleeper.sorts if sort == "faint"]
+    return states + [("asleep", name, ago) for name in faint for ago in range(sleeper.near + 1)]
+
+
+def deeds_of(house, sleeper, slow, place):
+    """What a nurse can do at a place, reckoned from the words of the document: a dict of lists of outcomes."""
+    room, state, free = place
+    deeds = {"wait": [(room, ticked(sleeper, state), True)]}
+    if room in house.cradles:
+        deeds["hum up"] = [(room, hummed(sleeper, state, "up"), free)]
+        deeds["hum doze"] = [(room, hummed(sleeper, state, "doze"), free)]
+    for number, (one, other, noise) in enumerate(house.doors):
+        if free and room in (one, other):
+            behind = one + other - room
+            deeds[f"door {number}"] = []
+            for ticks in range(slow + 1):
+                now = state if noise is None else heard(sleeper, state, noise)
+                for _ in range(ticks):
+                    now = ticked(sleeper, now)
+                for _, floor in [pair for pair in house.floors if pair[0] == behind]:
+                    now = heard(sleeper, now, floor)
+                deeds[f"door {number}"].append((behind, now, False))
+    return deeds
+
+
+def woken(outcomes):
+    """Whether the sleeper is woken in one of the outcomes."""
+    return any(state == ("woken",) for room, state, free in outcomes)

@@ -8,6 +8,7 @@ import unittest
 
 FOLDER = os.path.join(os.path.dirname(os.path.dirname(os.path.abspath(__file__))), "hushsteps")
 
+ERRAND = ["house", "sleeper", "slow", "start", "goal"]
 # What the interface lists, with its parameters.
 INTERFACE = {
     "errors": {
@@ -30,6 +31,15 @@ INTERFACE = {
     "tables": {
         "table": ["house", "sleeper", "first", "room"],
         "table_holds": ["house", "sleeper", "first", "room", "value"],
+    },
+    "nurses": {
+        "deeds_needed": ERRAND, "sure": ERRAND, "plan": ERRAND, "plan_holds": ERRAND + ["value"], "bar": ERRAND,
+        "bar_holds": ERRAND + ["value"],
+    },
+    "times": {"least_stir": ERRAND, "greatest_stir": ["house", "sleeper", "first", "room"]},
+    "boards": {
+        "least_noises": ["house", "sleeper", "first", "room"], "needless": ["house", "sleeper", "first"],
+        "safe_mends": ERRAND,
     },
 }
 METHODS = {
