@@ -9,7 +9,7 @@ def deeds_needed(house, sleeper, slow, start, goal):
     begin = beginning(sleeper, start)
     if is_goal(goal, begin):
         return 0
-    chosen = sure_deeds(places_ahead(house, sleeper, slow, start, goal), begin, goal)
+    chosen = sure_deeds(places_ahead(house, sleeper, slow, start, goal), goal)
     return chosen[begin][1] if begin in chosen else None
 
 
@@ -19,12 +19,12 @@ def sure(house, sleeper, slow, start, goal):
 
 
 def plan(house, sleeper, slow, start, goal):
-    """Some plan with the least ranks, or None if she can't be sure."""
+    """Some plan whose greatest rank is the least number of deeds that she needs, or None if she can't be sure."""
     begin = beginning(sleeper, start)
     if is_goal(goal, begin):
         return ()
     ahead = places_ahead(house, sleeper, slow, start, goal)
-    chosen = sure_deeds(ahead, begin, goal)
+    chosen = sure_deeds(ahead, goal)
     return entries_from(begin, ahead, chosen) if begin in chosen else None
 
 
@@ -45,7 +45,7 @@ def bar(house, sleeper, slow, start, goal):
     if is_goal(goal, begin):
         return None
     ahead = places_ahead(house, sleeper, slow, start, goal)
-    chosen = sure_deeds(ahead, begin, goal)
+    chosen = sure_deeds(ahead, goal)
     if begin in chosen:
         return None
     return tuple([place for place in ahead if place not in chosen])
@@ -63,15 +63,15 @@ def bar_holds(house, sleeper, slow, start, goal, value):
     return all([is_barred(deeds_at(house, sleeper, slow, place), held) for place in value])
 
 
-def sure_deeds(ahead, begin, goal):
-    """The deeds by which she is sure, with their ranks, for places ahead of the goal.
+def sure_deeds(ahead, goal):
+    """The deeds by which she is sure, with the least ranks that they can have, for places ahead of the goal.
 
-    They are found in rounds, those of the least rank first, until the beginning is among them or no more are found.
+    They are found in rounds, those of the least rank first, until no more are found.
     """
     chosen = {}
     rank = 1
     fresh = next_deeds(ahead, chosen, goal)
-    while len(fresh) > 0 and begin not in chosen:
+    while len(fresh) > 0:
         for place, deed in fresh:
             chosen[place] = (deed, rank)
         rank += 1
@@ -120,8 +120,9 @@ def is_entry(house, sleeper, value):
 def leads_down(deeds, ranks, goal, entry):
     """Whether the deed of an entry of a plan can be done, and leads to the goal or to lesser ranks alone."""
     place, deed, rank = entry
-    if deed not in deeds or wakes(deeds[deed]):
+    if deed not in deeds:
         return False
+    # Where the sleeper is woken is neither the goal nor a place that has a rank.
     return all([is_goal(goal, behind) or (behind in ranks and ranks[behind] < rank) for behind in deeds[deed]])
 
 

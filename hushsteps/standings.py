@@ -43,7 +43,7 @@ class Search:
     """
 
     def __init__(self, house, sleeper, first):
-        self.sleeper = sleeper
+        self.own_sleeper = sleeper
         self.steps = all_steps(house)
         start = begin(sleeper, first)
         self.found = {start: (0, None, None)}
@@ -59,7 +59,7 @@ class Search:
         at = 0
         while at < len(layer):
             for step in self.steps:
-                behind = behind_step(self.sleeper, layer[at], step)
+                behind = behind_step(self.own_sleeper, layer[at], step)
                 if behind is not None and behind not in self.found:
                     self.found[behind] = (ticks, layer[at], step)
                     layer.append(behind)
@@ -69,7 +69,7 @@ class Search:
         """The standings that come from those of a list by a tick for the first time."""
         later = []
         for standing in layer:
-            behind = behind_tick(self.sleeper, standing)
+            behind = behind_tick(self.own_sleeper, standing)
             if behind is not None and behind not in self.found:
                 self.found[behind] = (ticks, standing, None)
                 later.append(behind)

@@ -76,8 +76,8 @@ class Night:
     """A walk while it is played: how all is at the moment, and what was heard so far."""
 
     def __init__(self, house, sleeper, walk):
-        self.house = house
-        self.sleeper = sleeper
+        self.own_house = house
+        self.own_sleeper = sleeper
         self.guests = walk.guests
         self.state = first_state(sleeper, walk.first)
         self.places = [0] * (walk.guests + walk.nurses)
@@ -91,29 +91,29 @@ class Night:
             return True
         person = int(words[1])
         if words[0] == "hum":
-            return person >= self.guests and self.places[person] in self.house.cradles
-        return person not in self.moved and beyond(self.house, int(words[2]), self.places[person]) is not None
+            return person >= self.guests and self.places[person] in self.own_house.cradles
+        return person not in self.moved and beyond(self.own_house, int(words[2]), self.places[person]) is not None
 
     def follow(self, words):
         """Does an event that is possible, given by its words."""
         if words[0] == "tick":
             self.tick()
         elif words[0] == "hum":
-            self.state = hummed(self.sleeper, self.state, words[2])
+            self.state = hummed(self.own_sleeper, self.state, words[2])
         else:
             self.step(int(words[1]), int(words[2]))
 
     def tick(self):
         """Lets a tick go by, behind which everybody can make a step again."""
-        self.state = ticked(self.sleeper, self.state)
+        self.state = ticked(self.own_sleeper, self.state)
         self.ticks += 1
         self.moved = {}
 
     def step(self, person, number):
         """Lets a person go through a door."""
-        room = beyond(self.house, number, self.places[person])
-        noises = noises_of_step(self.house, number, room)
-        self.state = heard_all(self.sleeper, self.state, noises)
+        room = beyond(self.own_house, number, self.places[person])
+        noises = noises_of_step(self.own_house, number, room)
+        self.state = heard_all(self.own_sleeper, self.state, noises)
         self.made.extend([(self.ticks, noise) for noise in noises])
         self.places[person] = room
         self.moved[person] = True

@@ -41,11 +41,19 @@ INTERFACE = {
         "least_noises": ["house", "sleeper", "first", "room"], "needless": ["house", "sleeper", "first"],
         "safe_mends": ERRAND,
     },
+    "comparing": {"alike": ["p", "q"], "parting": ["p", "q"]},
+    "noises": {"possible": ["house", "lots"], "first_wrong": ["house", "lots"], "where": ["house", "lots"]},
+    "live": {"Live": ["house", "sleeper", "guests", "nurses", "first"]},
+    "desk": {"Desk": []},
 }
 METHODS = {
     ("houses", "House"): ("noises", "mended", "read", "__len__", "__eq__", "__str__"),
     ("sleepers", "Sleeper"): ("read", "__eq__", "__str__"),
     ("walks", "Walk"): ("upto", "further", "__len__", "__eq__"),
+    ("live", "Live"): (
+        "house", "sleeper", "walk", "played", "do", "several", "change", "undo", "within", "__len__",
+    ),
+    ("desk", "Desk"): ("say",),
 }
 LIBRARY = {"heapq", "math", "itertools", "collections"}
 BARRED = {
@@ -102,6 +110,12 @@ class Interface(unittest.TestCase):
         self.assertEqual(list(inspect.signature(walks.Walk.upto).parameters), ["self", "many"])
         self.assertEqual(list(inspect.signature(walks.Walk.further).parameters), ["self", "events"])
         self.assertEqual(inspect.signature(walks.Walk).parameters["events"].default, ())
+        live = importlib.import_module("hushsteps.live").Live
+        for name, wanted in (("do", ["event"]), ("several", ["events"]), ("change", ["sleeper"]), ("undo", []),
+                             ("within", ["work"])):
+            self.assertEqual(list(inspect.signature(getattr(live, name)).parameters), ["self"] + wanted)
+        desk = importlib.import_module("hushsteps.desk").Desk
+        self.assertEqual(list(inspect.signature(desk.say).parameters), ["self", "command"])
 
     def test_the_init_file_is_a_docstring_alone(self):
         tree = ast.parse(text_of(os.path.join(FOLDER, "__init__.py")))
@@ -127,6 +141,39 @@ class Rules(unittest.TestCase):
             for node in ast.walk(ast.parse(text_of(path))):
                 if isinstance(node, ast.FunctionDef):
                     self.assertLessEqual(node.end_lineno - node.lineno + 1, 40, (path, node.name))
+
+    def test_no_name_is_a_method_and_an_attribute(self):
+        methods, attributes = set(), set()
+        for path in files():
+            for node in ast.walk(ast.parse(text_of(path))):
+                if isinstance(node, ast.ClassDef):
+                    methods |= {row.name for row in node.body if isinstance(row, ast.FunctionDef)}
+                if isinstance(node, ast.Attribute) and isinstance(node.ctx, ast.Store):
+                    attributes.add(node.attr)
+        self.assertEqual(methods & attributes, set())
+
+    def test_no_file_imports_from_itself_by_way_of_others(self):
+        ahead = {}
+        for path in files():
+            rows = ast.parse(text_of(path)).body
+            modules = [row.module for row in rows if isinstance(row, ast.ImportFrom)]
+            ahead[os.path.basename(path)] = {module.split(".")[-1] + ".py" for module in modules}
+        while ahead:
+            free = [name for name, wanted in ahead.items() if not wanted & set(ahead)]
+            self.assertNotEqual(free, [], ahead)
+            for name in free:
+                del ahead[name]
+
+    def test_no_local_name_is_an_import(self):
+        for path in files():
+            tree = ast.parse(text_of(path))
+            held = {alias.name for row in tree.body if isinstance(row, ast.ImportFrom) for alias in row.names}
+            held |= {row.name for row in tree.body if isinstance(row, ast.ClassDef)}
+            for node in ast.walk(tree):
+                if isinstance(node, ast.Name) and isinstance(node.ctx, ast.Store):
+                    self.assertNotIn(node.id, held, path)
+                if isinstance(node, ast.arg):
+                    self.assertNotIn(node.arg, held, path)
 
     def test_imports_name_the_very_file(self):
         for path in files():
